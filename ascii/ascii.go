@@ -1,0 +1,29 @@
+// Package ascii: the kinds of bytes that the document has words for.
+package ascii
+
+// Letter tells if b is a to z or A to Z.
+func Letter(b byte) bool {
+	return 'a' <= b && b <= 'z' || upper(b)
+}
+
+// Digit tells if b is 0 to 9.
+func Digit(b byte) bool {
+	return '0' <= b && b <= '9'
+}
+
+// Small is the text in which A to Z are a to z. All else stays, because Unicode
+// has other letters (the Kelvin sign) whose small forms are among a to z.
+func Small(text string) string {
+	small := make([]byte, len(text))
+	for at := range len(text) {
+		small[at] = text[at]
+		if upper(text[at]) {
+			small[at] += 'a' - 'A'
+		}
+	}
+	return string(small)
+}
+
+func upper(b byte) bool {
+	return 'A' <= b && b <= 'Z'
+}

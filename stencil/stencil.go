@@ -1,0 +1,27 @@
+// Package stencil: templates that no value can break: see DOC.md.
+package stencil
+
+import (
+	"stencil/api"
+	"stencil/escape"
+)
+
+// Template is a template that was compiled.
+type Template struct{}
+
+// Clean makes a value of bytes such as may be in a page (P3).
+func Clean(value string) string { return escape.Clean(value) }
+
+// Escape writes a value as it must be in its place (P4).
+func Escape(as int, value string) (string, api.Errno) { return escape.Value(as, value) }
+
+// Modes tells where in a page one is behind each byte (P5).
+func Modes(page string) []int { return nil }
+
+// Compile reads a template and looks where its holes are (P6 to P9).
+func Compile(text string, partials []api.Partial) (*Template, api.Fault) { return nil, api.Fault{} }
+
+// Render fills the holes (P10 to P12).
+func (t *Template) Render(data []api.Datum, depth int, room int) (string, []api.Hole, api.Errno) {
+	return "", nil, api.OK
+}
