@@ -1,6 +1,9 @@
 // Package ascii: the kinds of bytes that the document has words for.
 package ascii
 
+// Blanks are the bytes that the document calls so.
+const Blanks = "\t\n\f\r "
+
 // Letter tells if b is a to z or A to Z.
 func Letter(b byte) bool {
 	return 'a' <= b && b <= 'z' || upper(b)
@@ -11,15 +14,20 @@ func Digit(b byte) bool {
 	return '0' <= b && b <= '9'
 }
 
+// SmallByte is b, but of A to Z its small letter.
+func SmallByte(b byte) byte {
+	if upper(b) {
+		b += 'a' - 'A'
+	}
+	return b
+}
+
 // Small is the text in which A to Z are a to z. All else stays, because Unicode
 // has other letters (the Kelvin sign) whose small forms are among a to z.
 func Small(text string) string {
 	small := make([]byte, len(text))
 	for at := range len(text) {
-		small[at] = text[at]
-		if upper(text[at]) {
-			small[at] += 'a' - 'A'
-		}
+		small[at] = SmallByte(text[at])
 	}
 	return string(small)
 }

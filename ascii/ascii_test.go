@@ -15,6 +15,9 @@ func TestKinds(t *testing.T) {
 		if want := strings.IndexByte("0123456789", b) >= 0; Digit(b) != want {
 			t.Errorf("Digit(%q) = %t", b, !want)
 		}
+		if want := Small(string([]byte{b})); want != string([]byte{SmallByte(b)}) {
+			t.Errorf("SmallByte(%q) = %q, want %q", b, SmallByte(b), want)
+		}
 	}
 }
 

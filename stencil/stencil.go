@@ -4,6 +4,7 @@ package stencil
 import (
 	"stencil/api"
 	"stencil/escape"
+	"stencil/markup"
 )
 
 // Template is a template that was compiled.
@@ -16,7 +17,7 @@ func Clean(value string) string { return escape.Clean(value) }
 func Escape(as int, value string) (string, api.Errno) { return escape.Value(as, value) }
 
 // Modes tells where in a page one is behind each byte (P5).
-func Modes(page string) []int { return nil }
+func Modes(page string) []int { return markup.Modes(page) }
 
 // Compile reads a template and looks where its holes are (P6 to P9).
 func Compile(text string, partials []api.Partial) (*Template, api.Fault) { return nil, api.Fault{} }
