@@ -4,6 +4,9 @@ package ascii
 // Blanks are the bytes that the document calls so.
 const Blanks = "\t\n\f\r "
 
+// Hex are the bytes that the document calls so.
+const Hex = "0123456789abcdefABCDEF"
+
 // Letter tells if b is a to z or A to Z.
 func Letter(b byte) bool {
 	return 'a' <= b && b <= 'z' || upper(b)

@@ -12,37 +12,48 @@ import (
 // mode: one of those that package api numbers.
 type mode uint8
 
-// state: the mode, and what else counts from here on.
-type state struct {
-	mode     mode
-	name     string // of a tag or attribute, as far as it is read
-	element  string // whose tag or content this is, if it is one of elements
-	kind     int    // of the attribute that this is, behind its name
-	endRead  int    // bytes of the element's end that are read
-	escaping bool   // just behind a backslash that counts
+// State: the mode, and what else counts from here on, and nothing else, so that
+// states can be held against each other. Without a mode it is no state.
+type State struct {
+	mode    mode
+	name    string // of a tag or attribute, as far as it is read
+	element string // whose tag or content this is, if it is one of elements
+	kind    int    // of the attribute that this is, behind its name
+	endRead int    // bytes of the element's end that are read
+	marks
+}
+
+// Begin is the state in which a page begins.
+func Begin() State {
+	return State{mode: api.Text}
+}
+
+// None tells if this is no state.
+func (s State) None() bool {
+	return s.mode == 0
 }
 
 // Modes is for each byte the mode behind it.
 func Modes(page string) []int {
 	modes := make([]int, len(page))
-	now := state{mode: api.Text}
+	now := Begin()
 	for at := range len(page) {
-		now = now.behind(page[at])
+		now = now.Behind(page[at])
 		modes[at] = int(now.mode)
 	}
 	return modes
 }
 
-// behind is the state behind one more byte.
-func (s state) behind(b byte) state {
+// Behind is the state behind one more byte.
+func (s State) Behind(b byte) State {
 	if s.mode >= api.Soft {
 		if s.ends(b) {
-			return state{mode: behindEnd(b)}
+			return State{mode: behindEnd(b)}
 		}
 		s.endRead = s.readEnd(b)
 	}
 	if escapes[s.mode] && (s.escaping || b == '\\') {
-		s.escaping = !s.escaping
+		s.marks = s.escaped(b)
 		return s
 	}
 table:
@@ -76,9 +87,12 @@ func stepOn(in mode, b byte) mode {
 }
 
 // led is the state behind b, which leads to that mode.
-func (s state) led(to mode, b byte) state {
-	if to != s.mode {
+func (s State) led(to mode, b byte) State {
+	if to == s.mode {
+		s.marks = s.stayed(b)
+	} else {
 		s = s.named()
+		s.marks = marks{}
 	}
 	s.mode = to
 	switch to {
@@ -95,7 +109,7 @@ func (s state) led(to mode, b byte) state {
 }
 
 // named is the state in which only what the name stands for counts, not the name.
-func (s state) named() state {
+func (s State) named() State {
 	switch s.mode {
 	case api.TagName:
 		s.element = elementOf(s.name)
@@ -125,13 +139,13 @@ func elementOf(name string) string {
 }
 
 // within is the state in which the content of an element of that name begins.
-func within(name string) state {
+func within(name string) State {
 	for i := range elements {
 		if elements[i].name == name {
-			return state{mode: elements[i].content, element: name}
+			return State{mode: elements[i].content, element: name}
 		}
 	}
-	return state{mode: api.Text}
+	return State{mode: api.Text}
 }
 
 func kindOf(name string) int {
@@ -144,12 +158,12 @@ func kindOf(name string) int {
 }
 
 // end is what the end of the element begins with.
-func (s state) end() string {
+func (s State) end() string {
 	return "</" + s.element
 }
 
 // ends tells if b is the byte by which the element's end is one.
-func (s state) ends(b byte) bool {
+func (s State) ends(b byte) bool {
 	return s.endRead == len(s.end()) && strings.IndexByte(ascii.Blanks+"/>", b) >= 0
 }
 
@@ -162,7 +176,7 @@ func behindEnd(b byte) mode {
 }
 
 // readEnd is how much of the element's end is read, with b.
-func (s state) readEnd(b byte) int {
+func (s State) readEnd(b byte) int {
 	end := s.end()
 	if s.endRead < len(end) && ascii.SmallByte(b) == end[s.endRead] {
 		return s.endRead + 1

@@ -114,6 +114,19 @@ var escapes = [content]bool{
 	api.CsSingle: true,
 }
 
+// longEscape: an escape that goes on with bytes of hex.
+type longEscape struct {
+	from, to mode   // the modes that have it
+	on       string // the bytes that it begins with, behind the backslash
+	hexLeft  int    // how many bytes of hex may follow these
+}
+
+var longEscapes = [...]longEscape{
+	{api.JsDouble, api.JsTick, "x", 2},
+	{api.JsDouble, api.JsTick, "u", 4},
+	{api.CsDouble, api.CsSingle, ascii.Hex, 5},
+}
+
 // element: a name of which the content is not Text.
 type element struct {
 	name    string

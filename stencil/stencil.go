@@ -5,10 +5,13 @@ import (
 	"stencil/api"
 	"stencil/escape"
 	"stencil/markup"
+	"stencil/plan"
 )
 
 // Template is a template that was compiled.
-type Template struct{}
+type Template struct {
+	plan plan.Plan
+}
 
 // Clean makes a value of bytes such as may be in a page (P3).
 func Clean(value string) string { return escape.Clean(value) }
@@ -20,7 +23,13 @@ func Escape(as int, value string) (string, api.Errno) { return escape.Value(as, 
 func Modes(page string) []int { return markup.Modes(page) }
 
 // Compile reads a template and looks where its holes are (P6 to P9).
-func Compile(text string, partials []api.Partial) (*Template, api.Fault) { return nil, api.Fault{} }
+func Compile(text string, partials []api.Partial) (*Template, api.Fault) {
+	made, fault := plan.Make(text, partials)
+	if fault.Code != api.OK {
+		return nil, fault
+	}
+	return &Template{made}, api.Fault{}
+}
 
 // Render fills the holes (P10 to P12).
 func (t *Template) Render(data []api.Datum, depth int, room int) (string, []api.Hole, api.Errno) {
