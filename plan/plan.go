@@ -12,13 +12,15 @@ import (
 // Plan: the texts of a template, gone through from each state in which they are
 // named. The first visit is that of the template's own text.
 type Plan struct {
-	visits []visit
+	Visits []Visit
 }
 
-// visit: a text, gone through from one state.
-type visit struct {
-	parts []tags.Part
-	marks []int // by part: of a hole how it is written, of a partial its visit, or 0 if it is not there
+// Visit: a text, gone through from one state. By part it has a mark: of a hole
+// how it is written, of a partial its visit, or 0 if it is not there. What stands
+// behind something that ends in no state is unmarked, because it is never come to.
+type Visit struct {
+	Parts []tags.Part
+	Marks []int
 }
 
 // source: a text of a template, and the partial's name.

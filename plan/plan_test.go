@@ -28,11 +28,11 @@ func mustMake(t *testing.T, text string, partials ...string) Plan {
 }
 
 // marksOf are the marks of a visit's parts of one kind.
-func marksOf(one visit, kind int) []int {
+func marksOf(one Visit, kind int) []int {
 	var marks []int
-	for i, part := range one.parts {
+	for i, part := range one.Parts {
 		if part.Kind == kind {
-			marks = append(marks, one.marks[i])
+			marks = append(marks, one.Marks[i])
 		}
 	}
 	return marks
@@ -51,7 +51,7 @@ func TestP7HowHolesAreWritten(t *testing.T) {
 		{"<a href='/{{#a}}{{a}}{{/a}}'>{{^b}}<i b='{{a}}'>{{a}}</i>{{/b}}", []int{3, 1, 1}},
 	} {
 		made := mustMake(t, c.text)
-		if marks := marksOf(made.visits[0], tags.Hole); len(made.visits) != 1 || !slices.Equal(marks, c.want) {
+		if marks := marksOf(made.Visits[0], tags.Hole); len(made.Visits) != 1 || !slices.Equal(marks, c.want) {
 			t.Errorf("P7: the holes of %q are written %v, want %v", c.text, marks, c.want)
 		}
 	}
@@ -61,32 +61,32 @@ func TestP7HowHolesAreWritten(t *testing.T) {
 // named, and its holes written as each asks.
 func TestP8Visits(t *testing.T) {
 	made := mustMake(t, "{{>p}}<a href='{{>p}}{{>p}}'>{{>p}}{{>z}}<script>'{{>q}}'</script>", "p", "{{a}}", "z9", "", "q", "{{>p}}{{>p}}")
-	if marks := marksOf(made.visits[0], tags.Partial); !slices.Equal(marks, []int{1, 2, 3, 1, 0, 4}) {
+	if marks := marksOf(made.Visits[0], tags.Partial); !slices.Equal(marks, []int{1, 2, 3, 1, 0, 4}) {
 		t.Errorf("P8: the partials' visits are %v", marks)
 	}
 	var as [][]int
-	for _, one := range made.visits {
+	for _, one := range made.Visits {
 		as = append(as, marksOf(one, tags.Hole))
 	}
 	if !slices.EqualFunc(as, [][]int{nil, {1}, {2}, {3}, nil, {4}}, slices.Equal) {
 		t.Errorf("P8: the holes are written %v", as)
 	}
-	if marks := marksOf(made.visits[4], tags.Partial); !slices.Equal(marks, []int{5, 5}) {
+	if marks := marksOf(made.Visits[4], tags.Partial); !slices.Equal(marks, []int{5, 5}) {
 		t.Errorf("P8: the visits of partials in a partial are %v", marks)
 	}
 }
 
 func TestP8VisitsOfPartialsThatNameThemselves(t *testing.T) {
 	made := mustMake(t, "{{>p}}", "p", "{{#b}}<i>{{>p}}{{a}}</i>{{/b}}")
-	if marks := marksOf(made.visits[1], tags.Partial); len(made.visits) != 2 || !slices.Equal(marks, []int{1}) {
-		t.Errorf("P8: p names the visit %v of itself, of %d", marks, len(made.visits))
+	if marks := marksOf(made.Visits[1], tags.Partial); len(made.Visits) != 2 || !slices.Equal(marks, []int{1}) {
+		t.Errorf("P8: p names the visit %v of itself, of %d", marks, len(made.Visits))
 	}
 	made = mustMake(t, "<b {{>p}}{{a}}", "p", "x{{>p}}")
-	if marks := marksOf(made.visits[2], tags.Partial); len(made.visits) < 3 || marks[0] == 0 {
+	if marks := marksOf(made.Visits[2], tags.Partial); len(made.Visits) < 3 || marks[0] == 0 {
 		t.Errorf("P8: p, which has no end, names the visits %v", marks)
 	}
 	made = mustMake(t, "{{#a}}{{>p}}{{b}}{{/a}}{{c}}", "p", "{{>p}}")
-	if marks := marksOf(made.visits[0], tags.Hole); !slices.Equal(marks, []int{0, 1}) {
+	if marks := marksOf(made.Visits[0], tags.Hole); !slices.Equal(marks, []int{0, 1}) {
 		t.Errorf("P8: the holes behind what has no end, and behind the section, are written %v", marks)
 	}
 }
@@ -97,22 +97,22 @@ func TestP8ManyStates(t *testing.T) {
 	const p = "{{#x}}a{{>p}}{{>q}}{{/x}}{{#x}}b{{>p}}{{>q}}{{/x}}"
 	const text = "{{>r}}<abc{{>p}}{{>r}} {{>r}}"
 	partials := []string{"p", p, "q", "{{>q}}", "r", ""}
-	if made := mustMake(t, text+">", partials...); len(made.visits) != 1+256 {
-		t.Errorf("P8: from 256 states: %d visits", len(made.visits))
+	if made := mustMake(t, text+">", partials...); len(made.Visits) != 1+256 {
+		t.Errorf("P8: from 256 states: %d visits", len(made.Visits))
 	}
 	want := api.Fault{Code: api.ErrContext, Kind: api.HolePlace, At: len(text)}
-	if made, fault := Make(text+"{{a}}", parts(partials...)); made.visits != nil || fault != want {
+	if made, fault := Make(text+"{{a}}", parts(partials...)); made.Visits != nil || fault != want {
 		t.Errorf("P8: from 256 states: %+v, want %+v", fault, want)
 	}
 	// Past that nothing is promised, but Make is to end all the same.
-	if made, fault := Make(text+"b{{>r}}>", parts(partials...)); made.visits != nil || fault != (api.Fault{Code: api.ErrContext}) {
+	if made, fault := Make(text+"b{{>r}}>", parts(partials...)); made.Visits != nil || fault != (api.Fault{Code: api.ErrContext}) {
 		t.Errorf("P8: from 257 states: %+v", fault)
 	}
 	var many strings.Builder
 	for _, letter := range "abcdefghijklmnopqrstuvwxyz0123456789" {
 		many.WriteString("{{#x}}" + string(letter) + "{{>p}}{{>q}}{{/x}}")
 	}
-	if made, fault := Make("<a{{>p}}>", parts("p", many.String(), "q", "{{>q}}")); made.visits != nil || fault != (api.Fault{Code: api.ErrContext}) {
+	if made, fault := Make("<a{{>p}}>", parts("p", many.String(), "q", "{{>q}}")); made.Visits != nil || fault != (api.Fault{Code: api.ErrContext}) {
 		t.Errorf("P8: from very many states: %+v", fault)
 	}
 }
@@ -129,8 +129,8 @@ func TestP2NothingIsKept(t *testing.T) {
 		clear(bytes[i])
 	}
 	var kept strings.Builder
-	for _, one := range made.visits {
-		for _, part := range one.parts {
+	for _, one := range made.Visits {
+		for _, part := range one.Parts {
 			kept.WriteString(part.Text + "|")
 		}
 	}

@@ -28,13 +28,13 @@ type search struct {
 	places  map[string]int         // which of sources a partial is
 	ends    map[entry]markup.State // in what it ends
 	numbers map[entry]int          // which visit is its
-	visits  []visit
+	visits  []Visit
 	fault   api.Fault
 }
 
 // lookThrough goes through a template from its beginning: the visits, or else
 // the first thing that is wrong.
-func lookThrough(sources []source, length int) ([]visit, api.Fault) {
+func lookThrough(sources []source, length int) ([]Visit, api.Fault) {
 	s := search{
 		sources: sources,
 		places:  map[string]int{},
@@ -113,10 +113,10 @@ search:
 
 // visit begins the visit of a text.
 func (s *search) visit(e entry) ([]tags.Part, []int) {
-	one := visit{s.sources[e.source].parts, make([]int, len(s.sources[e.source].parts))}
+	one := Visit{s.sources[e.source].parts, make([]int, len(s.sources[e.source].parts))}
 	s.numbers[e] = len(s.visits)
 	s.visits = append(s.visits, one)
-	return one.parts, one.marks
+	return one.Parts, one.Marks
 }
 
 // name goes through a partial if it is named from that state for the first

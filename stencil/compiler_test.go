@@ -409,7 +409,8 @@ var (
 	frames     = [][2]string{
 		{"<a href='", "'>"}, {`<a SRC="`, `">`}, {"<i b='", "'>"}, {"<i ", ">"}, {"<i", ">"}, {"<i a", "=b>"}, {"<script>'", "'</script>"}, {"<style>\"", "\"</style>"}, {"<title>", "</title>"}, {"<a href='/", "'>"}, {"<p>", "</p>"},
 	}
-	sectionNames = []string{"a", "b.c", "."}
+	holeNames    = []string{"a", "a", "b", ".", "b.c", "c.d.a"}
+	sectionNames = []string{"a", "b", "b.c", "."}
 	partialNames = []string{"p", "q", "r"}
 )
 
@@ -423,7 +424,7 @@ func (c *chooser) text(depth, loose int) string {
 		}
 		switch kind := c.below(12); {
 		case kind < 3:
-			out.WriteString("{{a}}")
+			out.WriteString("{{" + c.of(holeNames) + "}}")
 		case kind < 5:
 			out.WriteString("{{>" + c.of(partialNames) + "}}")
 		case kind < 8 && depth > 0:

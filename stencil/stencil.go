@@ -6,6 +6,7 @@ import (
 	"stencil/escape"
 	"stencil/markup"
 	"stencil/plan"
+	"stencil/render"
 )
 
 // Template is a template that was compiled.
@@ -33,5 +34,13 @@ func Compile(text string, partials []api.Partial) (*Template, api.Fault) {
 
 // Render fills the holes (P10 to P12).
 func (t *Template) Render(data []api.Datum, depth int, room int) (string, []api.Hole, api.Errno) {
-	return "", nil, api.OK
+	if !t.isMade() || depth < 0 || depth > api.MaxDepth {
+		return "", nil, api.ErrArg
+	}
+	return render.Page(t.plan, data, depth, room)
+}
+
+// isMade tells a template from what Compile gives beside a fault, or does not give.
+func (t *Template) isMade() bool {
+	return t != nil && len(t.plan.Visits) > 0
 }
